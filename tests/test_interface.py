@@ -1,0 +1,51 @@
+import importlib
+import inspect
+import unittest
+
+# Each module's names and arguments, as the document's interface lists them.
+INTERFACE = {
+    "moors": {
+        "is_count": ["thing"],
+        "moor": ["begin", "moves"],
+        "covers": ["stand", "other"],
+        "able": ["stand", "move"],
+        "after": ["stand", "move"],
+        "change": ["move"],
+    },
+    "walks": {
+        "run": ["moor", "stand", "row"],
+        "stands_of": ["moor", "stand", "row"],
+        "hurdle": ["moor", "row"],
+        "sum_of": ["moor", "row"],
+        "stride": ["moor", "stand", "blocks"],
+    },
+    "bases": {
+        "least": ["stands"],
+        "lifted": ["stand", "basis"],
+        "source": ["stand", "move"],
+        "step_back": ["moves", "basis"],
+        "is_shut": ["moves", "basis"],
+        "either": ["one", "other"],
+        "both": ["one", "other"],
+    },
+}
+ERRORS = ("MoorError", "NoMoor", "Stuck", "NoText", "NoName", "NoRow")
+
+
+class Interface(unittest.TestCase):
+    def test_names_and_arguments(self):
+        for name, functions in INTERFACE.items():
+            module = importlib.import_module("tokenmoor." + name)
+            for function, arguments in functions.items():
+                found = inspect.signature(getattr(module, function)).parameters
+                self.assertEqual(list(found), arguments, function)
+                self.assertTrue(all(one.default is one.empty for one in found.values()), function)
+
+    def test_error_classes(self):
+        module = importlib.import_module("tokenmoor.errors")
+        for name in ERRORS:
+            self.assertTrue(issubclass(getattr(module, name), ValueError))
+
+
+if __name__ == "__main__":
+    unittest.main()

@@ -1,0 +1,191 @@
+"""The rules of LANGUAGE.md that can be seen from the text of the package's files."""
+
+import ast
+import builtins
+import os
+import re
+import unittest
+
+PACKAGE = os.path.join(os.path.dirname(os.path.dirname(os.path.abspath(__file__))), "tokenmoor")
+
+# L6, L7: the statements and expressions that are allowed, besides the small parts they are made of.
+FORMS = set("""
+    Module ImportFrom alias FunctionDef ClassDef arguments arg Return Assign AugAssign AnnAssign For While If Raise Try
+    ExceptHandler Expr Pass Break Continue BoolOp BinOp UnaryOp Lambda IfExp Dict Set ListComp comprehension Compare
+    Call keyword FormattedValue JoinedStr Constant Attribute Subscript Name List Tuple Slice Load Store And Or Add Sub
+    Mult FloorDiv Mod Pow LShift RShift BitOr BitXor BitAnd Invert Not UAdd USub Eq NotEq Lt LtE Gt GtE Is IsNot In
+    NotIn
+""".split())
+PYTHON_NAMES = {name for name in dir(builtins) if not name.startswith("_")}
+# L8, less `chr` (L27).
+OWN_NAMES = set("""
+    len range enumerate zip min max sum abs sorted reversed int str bool list tuple dict set frozenset isinstance ord
+    repr any all divmod Exception ValueError TypeError KeyError IndexError LookupError ZeroDivisionError
+    ArithmeticError OverflowError RuntimeError NotImplementedError AttributeError StopIteration
+""".split())
+METHODS = {"__init__", "__eq__", "__repr__", "__str__", "__len__"}
+TOP_NAMES = {"__all__", "__version__", "__name__"}
+# L17.
+NEVER_NAMES = set("register mro elements open input version_info with_traceback add_note format format_map".split())
+NEVER_WORDS = re.compile(
+    r"\b(type|typing|typing_extensions|enum|Enum|IntEnum|StrEnum|Flag|IntFlag|Generic|Protocol|ABC|ABCMeta|namedtuple"
+    r"|NamedTuple|TypedDict|TYPE_CHECKING|abstractmethod)\b|dataclass|overload|contextmanager")
+
+
+def files():
+    return sorted(name for name in os.listdir(PACKAGE) if name != "__pycache__")
+
+
+def text_of(name):
+    with open(os.path.join(PACKAGE, name), encoding="ascii", newline="") as file:
+        return file.read()
+
+
+def faults_of_text(text):
+    """L10, L14, L17 of a file's bare text."""
+    lines = text.split("\n")
+    found = ["signs" for sign in text if not (" " <= sign <= "~" or sign == "\n")]
+    found += ["long line" for line in lines if len(line) > 120]
+    if text.count("\n") > 400:
+        found.append("long file")
+    found += ["word " + match.group() for match in NEVER_WORDS.finditer(text)]
+    return found
+
+
+def names_in(node):
+    """The names that a node binds, reads or asks for."""
+    if isinstance(node, ast.Name):
+        return [node.id]
+    if isinstance(node, (ast.FunctionDef, ast.ClassDef)):
+        return [node.name]
+    if isinstance(node, ast.arg):
+        return [node.arg]
+    if isinstance(node, ast.Attribute):
+        return [node.attr]
+    if isinstance(node, ast.ExceptHandler) and node.name:
+        return [node.name]
+    return []
+
+
+def faults_of_names(node):
+    found = []
+    for name in names_in(node):
+        plain = re.fullmatch(r"[A-Za-z][A-Za-z0-9_]*", name)
+        if name in NEVER_NAMES or not (plain or name in METHODS or name in TOP_NAMES):
+            found.append("name " + name)
+    if isinstance(node, ast.Name) and node.id in PYTHON_NAMES - OWN_NAMES:
+        found.append("name of Python's own " + node.id)
+    if isinstance(node, ast.Name) and isinstance(node.ctx, ast.Store) and node.id in PYTHON_NAMES:
+        found.append("another meaning for " + node.id)
+    if isinstance(node, ast.arg) and node.arg in PYTHON_NAMES:
+        found.append("another meaning for " + node.arg)
+    return found
+
+
+def faults_of_node(node):
+    found = [] if type(node).__name__ in FORMS else ["form " + type(node).__name__]
+    if isinstance(node, (ast.FunctionDef, ast.ClassDef)) and node.decorator_list:
+        found.append("decorator")
+    if isinstance(node, ast.FunctionDef) and node.end_lineno - node.lineno >= 40:
+        found.append("long function " + node.name)
+    if isinstance(node, ast.arguments) and (node.vararg or node.kwarg or node.kwonlyargs or node.posonlyargs):
+        found.append("parameters")
+    if isinstance(node, ast.Assign) and len(node.targets) > 1:
+        found.append("targets")
+    if isinstance(node, (ast.For, ast.While, ast.Try)) and (
+            getattr(node, "finalbody", []) or not isinstance(node, ast.Try) and node.orelse):
+        found.append("else behind a loop, or finally")
+    if isinstance(node, ast.ListComp) and (len(node.generators) > 1 or len(node.generators[0].ifs) > 1):
+        found.append("comprehension")
+    if isinstance(node, ast.Constant) and not isinstance(node.value, (int, str, type(None))):
+        found.append("value")
+    if isinstance(node, ast.ClassDef) and (len(node.bases) > 1 or node.keywords):
+        found.append("bases")
+    if isinstance(node, ast.Compare) and has_free_is(node):
+        found.append("is")
+    return found + faults_of_names(node)
+
+
+def has_free_is(node):
+    """L20: whether an `is` stands beside something else than None, True and False."""
+    for sign, value in zip(node.ops, node.comparators):
+        plain = isinstance(value, ast.Constant) and any(value.value is one for one in (None, True, False))
+        if isinstance(sign, (ast.Is, ast.IsNot)) and not plain:
+            return True
+    return False
+
+
+def faults(text):
+    found = faults_of_text(text)
+    for node in ast.walk(ast.parse(text)):
+        found += faults_of_node(node)
+    return found
+
+
+def drawn(text):
+    """The (module, name) pairs that a file imports."""
+    pairs = []
+    for node in ast.walk(ast.parse(text)):
+        if isinstance(node, ast.ImportFrom):
+            pairs += [("." * node.level + (node.module or ""), alias.name) for alias in node.names]
+    return pairs
+
+
+def bound(text):
+    """The names that a file's top binds itself."""
+    names = []
+    for node in ast.parse(text).body:
+        if isinstance(node, ast.Assign):
+            names += [target.id for target in node.targets]
+        names += names_in(node)
+    return names
+
+
+class Language(unittest.TestCase):
+    def test_file_names(self):
+        self.assertIn("__init__.py", files())
+        for name in files():
+            self.assertRegex(name, r"^([a-z][a-z0-9_]*|__init__|__main__)\.py$")
+            self.assertNotRegex(name, r"^(test|tests|testing|test_.*|site|conftest)\.py$")
+            self.assertNotIn(name[:-3], PYTHON_NAMES)
+
+    def test_texts_and_forms(self):
+        for name in files():
+            if name != "__main__.py":
+                self.assertEqual(faults(text_of(name)), [], name)
+
+    def test_imports_are_the_package_s_own_from_where_they_are_defined(self):
+        for name in files():
+            for module, wanted in drawn(text_of(name)):
+                if module == "__future__":
+                    continue
+                self.assertRegex(module, r"^tokenmoor\.[a-z]", name)
+                self.assertIn(wanted, bound(text_of(module.partition(".")[2] + ".py")), name)
+
+    def test_no_two_files_draw_from_one_another(self):
+        left = {name: {m.partition(".")[2] + ".py" for m, n in drawn(text_of(name))} for name in files()}
+        while left:
+            free = [name for name, needs in left.items() if not needs & set(left)]
+            self.assertTrue(free, left)
+            left = {name: needs for name, needs in left.items() if name not in free}
+
+    def test_each_name_is_bound_once(self):
+        for name in files():
+            names = bound(text_of(name))
+            self.assertEqual(len(names), len(set(names)), name)
+            self.assertFalse(set(names) & PYTHON_NAMES, name)
+
+    def test_faults_are_seen(self):
+        bad = (
+            "import sys\n", "x = 1 / 2\n", "x = 1.5\n", "def f(*a):\n    pass\n", "def f(id):\n    pass\n",
+            "x = y = 1\n", "x = [a for a in b for c in d]\n", "x = (a for a in b)\n", "def f():\n    print(1)\n",
+            "def f():\n    assert 1\n", "_x = 1\n", "# a type\n", "x = 1\t\n", "x = a is b\n", "x = " + "1" * 120 + "\n",
+            "for a in b:\n    pass\nelse:\n    pass\n", "try:\n    f()\nfinally:\n    pass\n", "x = a.mro\n",
+            "def f():\n" + "    g()\n" * 40, "x = 1\n" * 401)
+        for text in bad:
+            self.assertTrue(faults(text), text)
+        self.assertEqual(faults('"""Words."""\n\n\ndef f(a):\n    return a is None or [b for b in a if b]\n'), [])
+
+
+if __name__ == "__main__":
+    unittest.main()

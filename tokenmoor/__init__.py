@@ -1,0 +1,1 @@
+"""Moors of places with counters, told exactly."""
