@@ -70,3 +70,104 @@ def lifts(basis, stand):
 def plain_least(stands):
     kept = [one for one in set(stands) if not any(over(one, other) and one != other for other in stands)]
     return sorted(kept)
+
+
+def sparse_moors(seed, how_many):
+    """Made moors whose moves take from few places and put on few: long rows, caps of many kinds; some great counts."""
+    dice = random.Random(seed)
+    made = []
+    for number in range(how_many):
+        many = dice.randint(1, 6)
+        tops = (1, 2, 3, TOP - 1, TOP) if dice.random() < 0.1 else (1, 1, 1, 1, 2, 3)
+        moves = tuple(
+            (sparse_stand(dice, many, int(dice.random() > 0.05), 2, tops), sparse_stand(dice, many, 0, 2, tops))
+            for each in range(dice.randint(0, 8)))
+        made.append((sparse_stand(dice, many, 1, many, (0, 1, 2, 3)), moves))
+    return made
+
+
+def sparse_stand(dice, many, fewest, most, tops):
+    """A stand with counters at so many places only, their numbers of those in tops."""
+    counts = [0] * many
+    for place in dice.sample(range(many), min(many, dice.randint(fewest, most))):
+        counts[place] = dice.choice(tops)
+    return tuple(counts)
+
+
+def plain_sources(moves, basis):
+    return [tuple(max(t, s - p + t) for s, t, p in zip(stand, *move)) for stand in basis for move in moves]
+
+
+def plain_next_ring(moves, ring):
+    return plain_least(list(ring) + plain_sources(moves, ring))
+
+
+def flood(begin, moves, limit):
+    """The stands to which rows lead, nearest first, and whether these are all; no more than limit of them."""
+    stands = {begin: True}
+    left = [begin]
+    while left:
+        here = left.pop(0)
+        for number in range(len(moves)):
+            behind = walk(here, moves, [number])[0]
+            if behind is None or behind in stands:
+                continue
+            if len(stands) == limit:
+                return list(stands), False
+            stands[behind] = True
+            left.append(behind)
+    return list(stands), True
+
+
+def cap_under(cap, other):
+    return all(b is None or a is not None and a <= b for a, b in zip(cap, other))
+
+
+def cap_walk(cap, move):
+    """The cap behind the move, None where it can't go."""
+    if any(number is not None and number < take for number, take in zip(cap, move[0])):
+        return None
+    return tuple(None if number is None else number - take + put for number, take, put in zip(cap, *move))
+
+
+def plain_raised(cap, elder):
+    if not cap_under(elder, cap) or elder == cap:
+        return cap
+    told = list(cap)
+    for place in range(len(cap)):
+        if elder[place] is not None and cap[place] is not None and cap[place] > elder[place]:
+            told[place] = None
+    return tuple(told)
+
+
+def plain_tops(caps):
+    kept = {cap for cap in caps if not any(cap_under(cap, other) and cap != other for other in caps)}
+    return sorted(kept, key=lambda cap: [(number is None, number or 0) for number in cap])
+
+
+def plain_growth(moor, most):
+    """Row by row, as point 23 says it; beside each row its elders, nearest first, and the places they lifted."""
+    begin, moves = moor
+    rows, elders, lifts = [(begin, None, None)], [[]], [[]]
+    taken = 0
+    while taken < len(rows):
+        for number, move in enumerate(moves):
+            cap = cap_walk(rows[taken][0], move)
+            if cap is None:
+                continue
+            lifted = []
+            line = [taken] + elders[taken]
+            for elder in line:
+                higher = plain_raised(cap, rows[elder][0])
+                places = tuple(p for p in range(len(cap)) if cap[p] is not None and higher[p] is None)
+                lifted += [(elder, places)] if places else []
+                cap = higher
+            if any(cap_under(cap, row[0]) for row in rows):
+                continue
+            if len(rows) == most:
+                return None, None, None
+            rows.append((cap, taken, number))
+            elders.append(line)
+            lifts.append(lifted)
+        taken += 1
+    return rows, elders, lifts

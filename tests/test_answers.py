@@ -3,12 +3,20 @@
 import copy
 import unittest
 
+from tokenmoor.backs import cover, enough, never, walled
 from tokenmoor.bases import both, either, is_shut, least, lifted, source, step_back
+from tokenmoor.climbs import climb, lifts_of, peak, row_between, way
+from tokenmoor.crowns import cap_able, cap_after, crown, growth, is_crown, raised, tops, under
 from tokenmoor.moors import able, after, change, covers, is_count, moor
 from tokenmoor.walks import hurdle, run, stands_of, stride, sum_of
+from tokenmoor.weights import is_balance, is_falling, weigh
 
 MOOR = ((2, 0), (((1, 0), (0, 1)), ((0, 1), (2, 0))))
 MOVES = MOOR[1]
+# TREE is the growth of TALL: its first two places grow, the third one stays as it is.
+TALL = ((1, 0, 3), (((1, 0, 0), (0, 1, 0)), ((0, 1, 0), (2, 0, 0))))
+TREE = [((1, 0, 3), None, None), ((0, 1, 3), 0, 0), ((None, 0, 3), 1, 1), ((None, None, 3), 2, 0)]
+CAPS = [(2, None), (1, 0), (None, 0), (2, None), (0, 7)]
 
 # Lists that are no bases yet (unsorted, with stands alike or covered) as well as such that are.
 QUESTIONS = (
@@ -41,7 +49,58 @@ QUESTIONS = (
     (both, [[(3, 3), (2, 0)], [(0, 1), (2, 0)]]),
     (both, [[(0, 0)], [(0, 1)]]),
     (both, [[], [(0, 1)]]),
+    (enough, [MOVES, (0, 2), 30]),
+    (enough, [MOVES, (0, 2), 1]),
+    (enough, [(), (0, 2), 1]),
+    (cover, [MOOR, (0, 5), 30]),
+    (cover, [MOOR, (2, 0), 30]),
+    (cover, [MOOR, (0, 5), 1]),
+    (cover, [((0, 0), MOVES), (0, 2), 30]),
+    (walled, [((0, 0), MOVES), (0, 2), [(3, 3), (1, 0), (0, 1), (1, 0)]]),
+    (never, [MOOR, 30]),
+    (never, [((0, 0), MOVES + (((0, 9), (0, 0)),)), 3]),
+    (under, [(2, None), (3, None)]),
+    (cap_able, [(2, None), MOVES[1]]),
+    (cap_after, [(2, None), MOVES[1]]),
+    (raised, [(2, None), (1, 0)]),
+    (raised, [(2, None), (3, 0)]),
+    (tops, [CAPS]),
+    (tops, [[(0, 7), (2, None)]]),
+    (tops, [[]]),
+    (growth, [TALL, 30]),
+    (growth, [TALL, 3]),
+    (growth, [((2,), ()), 1]),
+    (crown, [TALL, 30]),
+    (crown, [TALL, 3]),
+    (is_crown, [MOOR, CAPS]),
+    (way, [TREE, 3]),
+    (way, [TREE, 0]),
+    (row_between, [TREE, 0, 3]),
+    (row_between, [TREE, 3, 3]),
+    (lifts_of, [TALL, TREE, 3]),
+    (lifts_of, [TALL, TREE, 0]),
+    (climb, [TALL, TREE, 3, 10 ** 60 - 1]),
+    (climb, [TALL, TREE, 3, 0]),
+    (climb, [TALL, TREE, 0, 5]),
+    (peak, [TALL, 1, 30]),
+    (peak, [TALL, 2, 30]),
+    (peak, [TALL, 2, 1]),
+    (weigh, [(2, -1), (3, 4)]),
+    (is_balance, [MOVES, (2, 1)]),
+    (is_falling, [MOVES, (2, 1)]),
 )
+
+
+def spoil(told):
+    """Changes each list in what was told; tells how many there were."""
+    if not isinstance(told, (list, tuple)):
+        return 0
+    spoiled = sum(spoil(thing) for thing in told)
+    if isinstance(told, list):
+        told.append("mine")
+        told.reverse()
+        return spoiled + 1
+    return spoiled
 
 
 class Answers(unittest.TestCase):
@@ -63,14 +122,21 @@ class Answers(unittest.TestCase):
         for call, handed in QUESTIONS:
             given = copy.deepcopy(handed)
             told = call(*given)
-            if isinstance(told, list):
+            kept = copy.deepcopy(told)
+            if spoil(told) > 0:
                 asked += 1
-                kept = list(told)
-                told.append("mine")
-                told.reverse()
                 self.assertEqual(given, handed, call)
                 self.assertEqual(call(*given), kept, call)
-        self.assertTrue(asked > 10)
+        self.assertTrue(asked > 35)
+
+    def test_a_told_list_is_told_once(self):
+        # Two lists of one answer are two: each changes by itself.
+        told = climb(TALL, TREE, 3, 9)
+        self.assertTrue(len(told) > 2)
+        for row, times in told:
+            kept = copy.deepcopy(told)
+            row.append(row[0])
+            self.assertEqual([one == other for one, other in zip(told, kept)].count(False), 1)
 
     def test_what_is_asked_later_changes_no_told_list(self):
         for call, handed in QUESTIONS:
@@ -81,9 +147,11 @@ class Answers(unittest.TestCase):
             for thing in given:
                 if isinstance(thing, list):
                     thing.clear()
-            if isinstance(again, list):
-                again.clear()
+            spoil(again)
             self.assertEqual(told, kept, call)
+
+    def test_the_growth_handed_in_here_is_the_one_that_is_told(self):
+        self.assertEqual(growth(TALL, 30), TREE)
 
 
 if __name__ == "__main__":

@@ -1,16 +1,13 @@
 import random
 import unittest
 
-from helpers import HUGE, PLAIN, TOP, grid, lifts, over, plain_least, some_moors, some_stand, walk
+from helpers import (
+    HUGE, PLAIN, TOP, grid, lifts, over, plain_least, plain_sources, some_moors, some_stand, walk)
 from tokenmoor.bases import both, either, is_shut, least, lifted, source, step_back
 
 
 def some_stands(dice, many, top, most):
     return [some_stand(dice, many, top) for each in range(dice.randint(0, most))]
-
-
-def plain_sources(moves, basis):
-    return [tuple(max(t, s - p + t) for s, t, p in zip(stand, *move)) for stand in basis for move in moves]
 
 
 class Least(unittest.TestCase):

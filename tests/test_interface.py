@@ -28,6 +28,34 @@ INTERFACE = {
         "either": ["one", "other"],
         "both": ["one", "other"],
     },
+    "backs": {
+        "enough": ["moves", "target", "most"],
+        "cover": ["moor", "target", "most"],
+        "walled": ["moor", "target", "basis"],
+        "never": ["moor", "most"],
+    },
+    "crowns": {
+        "under": ["cap", "other"],
+        "cap_able": ["cap", "move"],
+        "cap_after": ["cap", "move"],
+        "raised": ["cap", "elder"],
+        "tops": ["caps"],
+        "growth": ["moor", "most"],
+        "crown": ["moor", "most"],
+        "is_crown": ["moor", "caps"],
+    },
+    "climbs": {
+        "way": ["tree", "number"],
+        "row_between": ["tree", "elder", "number"],
+        "lifts_of": ["moor", "tree", "number"],
+        "climb": ["moor", "tree", "number", "height"],
+        "peak": ["moor", "place", "most"],
+    },
+    "weights": {
+        "weigh": ["weights", "counts"],
+        "is_balance": ["moves", "weights"],
+        "is_falling": ["moves", "weights"],
+    },
 }
 ERRORS = ("MoorError", "NoMoor", "Stuck", "NoText", "NoName", "NoRow")
 

@@ -31,6 +31,20 @@ NEVER_WORDS = re.compile(
     r"\b(type|typing|typing_extensions|enum|Enum|IntEnum|StrEnum|Flag|IntFlag|Generic|Protocol|ABC|ABCMeta|namedtuple"
     r"|NamedTuple|TypedDict|TYPE_CHECKING|abstractmethod)\b|dataclass|overload|contextmanager")
 
+# L23: what is walked where it stands, and in which calls it may stand first.
+WALKED = {"zip", "enumerate", "reversed", "range", "items", "keys", "values"}
+WALKERS = {"list", "tuple", "dict", "sorted", "sum", "any", "all", "enumerate", "zip", "min", "max", "join"}
+# L22: the keywords of Python's own names.
+KEYWORDS = {
+    "sorted": {"key", "reverse"}, "min": {"key", "default"}, "max": {"key", "default"}, "sum": {"start"},
+    "enumerate": {"start"}, "zip": {"strict"}}
+# L25.
+OWN_METHODS = set("""
+    append clear copy count endswith extend find get index insert isalnum isalpha isdigit islower isspace isupper items
+    join keys ljust lower lstrip partition pop remove replace reverse rfind rjust rpartition rsplit rstrip setdefault
+    split splitlines startswith strip update upper values zfill bit_length
+""".split())
+
 
 def files():
     return sorted(name for name in os.listdir(PACKAGE) if name != "__pycache__")
@@ -115,9 +129,49 @@ def has_free_is(node):
     return False
 
 
+def called(node):
+    """The name of the function or method that a call calls; "" of what is no call."""
+    if not isinstance(node, ast.Call):
+        return ""
+    return node.func.id if isinstance(node.func, ast.Name) else getattr(node.func, "attr", "")
+
+
+def faults_of_calls(tree):
+    """L22, L23, L25: keywords, what is kept instead of walked, and methods, of a whole file."""
+    found = []
+    own = {node.name for node in ast.walk(tree) if isinstance(node, ast.FunctionDef)}
+    walked = []
+    for node in ast.walk(tree):
+        if isinstance(node, (ast.For, ast.comprehension)):
+            walked.append(node.iter)
+        if called(node) in WALKERS:
+            walked += node.args[:1]
+    for node in ast.walk(tree):
+        name = called(node)
+        if name in WALKED and not any(node is one for one in walked):
+            found.append("kept " + name)
+        if name in OWN_NAMES and {word.arg for word in node.keywords} - KEYWORDS.get(name, set()):
+            found.append("keyword at " + name)
+        if name and isinstance(node.func, ast.Attribute) and name not in OWN_METHODS | own | METHODS:
+            found.append("method " + name)
+    return found
+
+
+def faults_of_locals(tree):
+    """L15: parameters and locals called like an import or a class of their file."""
+    taken = {alias.asname or alias.name for node in tree.body if isinstance(node, ast.ImportFrom)
+             for alias in node.names}
+    taken |= {node.name for node in tree.body if isinstance(node, ast.ClassDef)}
+    bound_names = [node.arg for node in ast.walk(tree) if isinstance(node, ast.arg)]
+    bound_names += [
+        node.id for node in ast.walk(tree) if isinstance(node, ast.Name) and isinstance(node.ctx, ast.Store)]
+    return ["local like an import " + name for name in bound_names if name in taken]
+
+
 def faults(text):
-    found = faults_of_text(text)
-    for node in ast.walk(ast.parse(text)):
+    tree = ast.parse(text)
+    found = faults_of_text(text) + faults_of_calls(tree) + faults_of_locals(tree)
+    for node in ast.walk(tree):
         found += faults_of_node(node)
     return found
 
@@ -181,9 +235,13 @@ class Language(unittest.TestCase):
             "x = y = 1\n", "x = [a for a in b for c in d]\n", "x = (a for a in b)\n", "def f():\n    print(1)\n",
             "def f():\n    assert 1\n", "_x = 1\n", "# a type\n", "x = 1\t\n", "x = a is b\n", "x = " + "1" * 120 + "\n",
             "for a in b:\n    pass\nelse:\n    pass\n", "try:\n    f()\nfinally:\n    pass\n", "x = a.mro\n",
-            "def f():\n" + "    g()\n" * 40, "x = 1\n" * 401)
+            "def f():\n" + "    g()\n" * 40, "x = 1\n" * 401, "x = zip(a, b)\n", "x = list(a, zip(a, b))\n",
+            "x = a.items()\n", "x = sorted(a, cmp=b)\n", "x = list(a, key=b)\n", "x = a.sort()\n",
+            "from a import b\n\n\ndef f(b):\n    pass\n", "from a import b\n\n\ndef f():\n    b = 1\n")
         for text in bad:
             self.assertTrue(faults(text), text)
+        good = "from a import b\n\n\ndef f(c):\n    return [b(d) for d in reversed(sorted(c, key=b, reverse=True))]\n"
+        self.assertEqual(faults(good), [])
         self.assertEqual(faults('"""Words."""\n\n\ndef f(a):\n    return a is None or [b for b in a if b]\n'), [])
 
 
