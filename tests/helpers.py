@@ -33,6 +33,10 @@ def some_moors(seed, how_many):
     return made
 
 
+def made_moors(seed, how_many):
+    return list(PLAIN) + some_moors(seed, how_many) + sparse_moors(seed, how_many)
+
+
 def some_stand(dice, many, top):
     return tuple(dice.randint(0, top) for place in range(many))
 
@@ -94,6 +98,56 @@ def sparse_stand(dice, many, fewest, most, tops):
     return tuple(counts)
 
 
+def move_of(step):
+    """A move with this change, that takes nothing where it puts something."""
+    return tuple(max(0, -by) for by in step), tuple(max(0, by) for by in step)
+
+
+def great_moves(dice, many, how_many, kinds):
+    """Moves whose changes are great at all places, each one made up of so many kinds of them."""
+    steps = [
+        [dice.choice((-1, 1)) * dice.randint(10 ** 4, 2 * 10 ** 4) for place in range(many)] for kind in range(kinds)]
+    made = []
+    for each in range(how_many):
+        times = [dice.choice((-1, 1)) * dice.randint(10 ** 3, 8 * 10 ** 3) for step in steps]
+        made.append(move_of([sum(t * step[place] for t, step in zip(times, steps)) for place in range(many)]))
+    return tuple(made)
+
+
+def made_moves(seed, how_many):
+    """Tuples (moves, many): ordinary moves, some of them the same moves to and fro, edges, and great changes."""
+    dice = random.Random(seed)
+    made = []
+    for begin, moves in made_moors(seed, how_many):
+        made.append((moves[:dice.choice((1, 2, 3, 8))], len(begin)))
+        made.append((tuple(move for one in moves[:4] for move in (one, one[::-1])), len(begin)))
+    for each in range(how_many // 2):
+        many = dice.randint(1, 6)
+        made.append((great_moves(dice, many, dice.randint(1, 8), dice.randint(1, 6)), many))
+    made += [(great_moves(dice, 6, 8, kinds), 6) for kinds in range(1, 7)]
+    for many in range(1, 7):
+        nothing = (0,) * many
+        made.append((tuple((some_stand(dice, many, TOP), some_stand(dice, many, TOP)) for each in range(8)), many))
+        made += [((), many), (((nothing, nothing),), many), ((((TOP,) * many, (TOP,) * many),) * 8, many)]
+        made += [(((nothing, (TOP,) * many),), many), ((((TOP,) * many, nothing),), many)]
+    return made
+
+
+def plain_weight(weights, counts):
+    total = 0
+    for place in range(len(weights)):
+        total += weights[place] * counts[place]
+    return total
+
+
+def plain_changes(moves, weights):
+    return [plain_weight(weights, put) - plain_weight(weights, take) for take, put in moves]
+
+
+def plain_falling(moves, weights):
+    return min(weights) >= 0 and all(number <= 0 for number in plain_changes(moves, weights))
+
+
 def plain_sources(moves, basis):
     return [tuple(max(t, s - p + t) for s, t, p in zip(stand, *move)) for stand in basis for move in moves]
 
@@ -104,19 +158,27 @@ def plain_next_ring(moves, ring):
 
 def flood(begin, moves, limit):
     """The stands to which rows lead, nearest first, and whether these are all; no more than limit of them."""
-    stands = {begin: True}
-    left = [begin]
-    while left:
-        here = left.pop(0)
+    rows, whole = plain_flood((begin, moves), limit)
+    return [row[0] for row in rows], whole
+
+
+def plain_flood(moor, most):
+    """Row by row, as point 36 says it."""
+    begin, moves = moor
+    rows = [(begin, None, None)]
+    known = {begin}
+    taken = 0
+    while taken < len(rows):
         for number in range(len(moves)):
-            behind = walk(here, moves, [number])[0]
-            if behind is None or behind in stands:
+            behind = walk(rows[taken][0], moves, [number])[0]
+            if behind is None or behind in known:
                 continue
-            if len(stands) == limit:
-                return list(stands), False
-            stands[behind] = True
-            left.append(behind)
-    return list(stands), True
+            if len(rows) == most:
+                return rows, False
+            rows.append((behind, taken, number))
+            known.add(behind)
+        taken += 1
+    return rows, True
 
 
 def cap_under(cap, other):

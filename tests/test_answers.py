@@ -4,10 +4,15 @@ import copy
 import unittest
 
 from tokenmoor.backs import cover, enough, never, walled
+from tokenmoor.balances import balances, shares
 from tokenmoor.bases import both, either, is_shut, least, lifted, source, step_back
+from tokenmoor.ceilings import ceiling, level
 from tokenmoor.climbs import climb, lifts_of, peak, row_between, way
 from tokenmoor.crowns import cap_able, cap_after, crown, growth, is_crown, raised, tops, under
+from tokenmoor.floods import bounded, flood, row_to
 from tokenmoor.moors import able, after, change, covers, is_count, moor
+from tokenmoor.sets import (
+    breaks_dry, breaks_wet, greatest_dry, greatest_wet, is_dry, is_wet, least_dry, least_wet, turned)
 from tokenmoor.walks import hurdle, run, stands_of, stride, sum_of
 from tokenmoor.weights import is_balance, is_falling, weigh
 
@@ -16,6 +21,10 @@ MOVES = MOOR[1]
 # TREE is the growth of TALL: its first two places grow, the third one stays as it is.
 TALL = ((1, 0, 3), (((1, 0, 0), (0, 1, 0)), ((0, 1, 0), (2, 0, 0))))
 TREE = [((1, 0, 3), None, None), ((0, 1, 3), 0, 0), ((None, 0, 3), 1, 1), ((None, None, 3), 2, 0)]
+# ROWS are the flood of LOW, and FORM is a list of weights of the form in which balances are told.
+LOW = ((2, 0), MOVES[:1])
+ROWS = [((2, 0), None, None), ((1, 1), 0, 0), ((0, 2), 1, 0)]
+FORM = [(1, 2, 1), (0, 3, 2)]
 CAPS = [(2, None), (1, 0), (None, 0), (2, None), (0, 7)]
 
 # Lists that are no bases yet (unsorted, with stands alike or covered) as well as such that are.
@@ -88,6 +97,35 @@ QUESTIONS = (
     (weigh, [(2, -1), (3, 4)]),
     (is_balance, [MOVES, (2, 1)]),
     (is_falling, [MOVES, (2, 1)]),
+    (balances, [MOVES[:1], 2]),
+    (balances, [MOVES, 2]),
+    (balances, [(), 2]),
+    (shares, [FORM, (2, 7, 4)]),
+    (shares, [FORM, (2, 7, 5)]),
+    (shares, [[], (0, 0)]),
+    (ceiling, [MOVES, 1, 2]),
+    (ceiling, [MOVES[:1], 1, 2]),
+    (level, [MOVES, 2]),
+    (level, [MOVES[:1], 2]),
+    (is_dry, [MOVES, (0, 1)]),
+    (is_wet, [MOVES, (0, 1)]),
+    (breaks_dry, [MOVES, (1,)]),
+    (breaks_wet, [MOVES, (0,)]),
+    (greatest_dry, [MOVES, (0, 1)]),
+    (greatest_wet, [MOVES[:1], (0, 1)]),
+    (least_dry, [MOVES, 2]),
+    (least_dry, [(), 2]),
+    (least_wet, [MOVES, 2]),
+    (least_wet, [(), 2]),
+    (turned, [MOVES]),
+    (flood, [LOW, 30]),
+    (flood, [LOW, 1]),
+    (row_to, [ROWS, 2]),
+    (row_to, [ROWS, 0]),
+    (bounded, [MOOR, 30]),
+    (bounded, [MOOR, 2]),
+    (bounded, [LOW, 30]),
+    (bounded, [LOW, 2]),
 )
 
 
@@ -127,7 +165,7 @@ class Answers(unittest.TestCase):
                 asked += 1
                 self.assertEqual(given, handed, call)
                 self.assertEqual(call(*given), kept, call)
-        self.assertTrue(asked > 35)
+        self.assertTrue(asked > 50)
 
     def test_a_told_list_is_told_once(self):
         # Two lists of one answer are two: each changes by itself.
@@ -137,6 +175,12 @@ class Answers(unittest.TestCase):
             kept = copy.deepcopy(told)
             row.append(row[0])
             self.assertEqual([one == other for one, other in zip(told, kept)].count(False), 1)
+
+    def test_the_two_rows_of_a_lift_are_two(self):
+        told = bounded(((1, 0), (((1, 0), (0, 1)), ((0, 1), (0, 2)))), 30)
+        self.assertEqual(told, ("lift", [0], [1]))
+        told[1].append(7)
+        self.assertEqual(told, ("lift", [0, 7], [1]))
 
     def test_what_is_asked_later_changes_no_told_list(self):
         for call, handed in QUESTIONS:
@@ -152,6 +196,9 @@ class Answers(unittest.TestCase):
 
     def test_the_growth_handed_in_here_is_the_one_that_is_told(self):
         self.assertEqual(growth(TALL, 30), TREE)
+
+    def test_the_flood_handed_in_here_is_the_one_that_is_told(self):
+        self.assertEqual(flood(LOW, 30), (ROWS, True))
 
 
 if __name__ == "__main__":

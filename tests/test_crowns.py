@@ -3,7 +3,7 @@ import random
 import unittest
 
 from helpers import (
-    HUGE, PLAIN, TOP, cap_under, cap_walk, flood, plain_growth, plain_raised, plain_tops, some_moors, sparse_moors)
+    HUGE, PLAIN, TOP, cap_under, cap_walk, flood, made_moors, plain_growth, plain_raised, plain_tops)
 from tokenmoor.crowns import cap_able, cap_after, crown, growth, is_crown, raised, tops, under
 from tokenmoor.errors import MoorError, NoMoor, NoName, NoRow, NoText, Stuck
 
@@ -24,10 +24,6 @@ def some_cap(dice, many):
 def close_cap(dice, cap):
     """A cap that is often under the given one, or over it."""
     return tuple(dice.choice((number, number, number, None, 0, 2)) for number in cap)
-
-
-def made_moors(seed, how_many):
-    return list(PLAIN) + some_moors(seed, how_many) + sparse_moors(seed, how_many)
 
 
 class Under(unittest.TestCase):

@@ -56,6 +56,30 @@ INTERFACE = {
         "is_balance": ["moves", "weights"],
         "is_falling": ["moves", "weights"],
     },
+    "balances": {
+        "balances": ["moves", "many"],
+        "shares": ["basis", "weights"],
+    },
+    "ceilings": {
+        "ceiling": ["moves", "place", "many"],
+        "level": ["moves", "many"],
+    },
+    "sets": {
+        "is_dry": ["moves", "places"],
+        "is_wet": ["moves", "places"],
+        "breaks_dry": ["moves", "places"],
+        "breaks_wet": ["moves", "places"],
+        "greatest_dry": ["moves", "places"],
+        "greatest_wet": ["moves", "places"],
+        "least_dry": ["moves", "many"],
+        "least_wet": ["moves", "many"],
+        "turned": ["moves"],
+    },
+    "floods": {
+        "flood": ["moor", "most"],
+        "row_to": ["rows", "number"],
+        "bounded": ["moor", "most"],
+    },
 }
 ERRORS = ("MoorError", "NoMoor", "Stuck", "NoText", "NoName", "NoRow")
 

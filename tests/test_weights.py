@@ -1,28 +1,17 @@
 import random
 import unittest
 
-from helpers import HUGE, PLAIN, TOP, some_moors, some_row, sparse_moors, walk
+from helpers import HUGE, PLAIN, TOP, made_moors, plain_changes, plain_falling, plain_weight, some_row, walk
 from tokenmoor.weights import is_balance, is_falling, weigh
 
 # Move 0 makes two counters of one, move 1 one of two.
 MOVES = (((1, 0), (0, 2)), ((0, 2), (1, 0)))
 
 
-def plain_weight(weights, counts):
-    total = 0
-    for place in range(len(weights)):
-        total += weights[place] * counts[place]
-    return total
-
-
-def plain_changes(moves, weights):
-    return [plain_weight(weights, put) - plain_weight(weights, take) for take, put in moves]
-
-
 def made_weights(seed, how_many):
     """Moves with weights, among them such as are a balance or falling."""
     dice = random.Random(seed)
-    for made in some_moors(seed, how_many) + sparse_moors(seed, how_many) + list(PLAIN):
+    for made in made_moors(seed, how_many):
         moves = made[1][:dice.choice((1, 1, 2, 8))]
         for numbers in ((-2, -1, 0, 1, 2), (0, 0, 0, 1), (0, 1, 2, 3), (-HUGE, 0, 0, HUGE)):
             yield made[0], moves, tuple(dice.choice(numbers) for place in made[0])
@@ -134,7 +123,7 @@ class Falling(unittest.TestCase):
         seen = {True: 0, False: 0}
         dice = random.Random(94)
         for begin, moves, weights in made_weights(95, 250):
-            falls = min(weights) >= 0 and all(number <= 0 for number in plain_changes(moves, weights))
+            falls = plain_falling(moves, weights)
             self.assertIs(is_falling(moves, weights), falls)
             seen[falls] += 1
             row = some_row(dice, moves, 5)
