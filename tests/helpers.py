@@ -47,6 +47,18 @@ def some_row(dice, moves, longest):
     return [dice.randrange(len(moves)) for each in range(dice.randint(0, longest))]
 
 
+def wander(dice, stand, moves, longest):
+    """A row that can go from the stand, and all the stands on its way."""
+    row, stands = [], [stand]
+    for each in range(longest if moves else 0):
+        number = dice.randrange(len(moves))
+        behind = walk(stands[-1], moves, [number])[0]
+        if behind is not None:
+            row.append(number)
+            stands.append(behind)
+    return row, stands
+
+
 def grid(many, top):
     """Every stand of so many places with no number above top."""
     return list(itertools.product(range(top + 1), repeat=many))
@@ -86,6 +98,20 @@ def sparse_moors(seed, how_many):
         moves = tuple(
             (sparse_stand(dice, many, int(dice.random() > 0.05), 2, tops), sparse_stand(dice, many, 0, 2, tops))
             for each in range(dice.randint(0, 8)))
+        made.append((sparse_stand(dice, many, 1, many, (0, 1, 2, 3)), moves))
+    return made
+
+
+def single_moors(seed, how_many):
+    """Made moors whose moves take from one or two places and no more than one counter from each; some lose counters."""
+    dice = random.Random(seed)
+    made = []
+    for number in range(how_many):
+        many = dice.randint(1, 6)
+        fewest = dice.choice((0, 1, 1, 1))
+        moves = tuple(
+            (sparse_stand(dice, many, 1, 2, (1,)), sparse_stand(dice, many, fewest, 3, (1, 1, 1, 2)))
+            for each in range(dice.randint(1, 8)))
         made.append((sparse_stand(dice, many, 1, many, (0, 1, 2, 3)), moves))
     return made
 

@@ -9,10 +9,14 @@ from tokenmoor.bases import both, either, is_shut, least, lifted, source, step_b
 from tokenmoor.ceilings import ceiling, level
 from tokenmoor.climbs import climb, lifts_of, peak, row_between, way
 from tokenmoor.crowns import cap_able, cap_after, crown, growth, is_crown, raised, tops, under
+from tokenmoor.desk import Desk
+from tokenmoor.ends import again, end_of, is_end, kept
 from tokenmoor.floods import bounded, flood, row_to
 from tokenmoor.moors import able, after, change, covers, is_count, moor
+from tokenmoor.reasons import reached
 from tokenmoor.sets import (
     breaks_dry, breaks_wet, greatest_dry, greatest_wet, is_dry, is_wet, least_dry, least_wet, turned)
+from tokenmoor.texts import read, shown
 from tokenmoor.walks import hurdle, run, stands_of, stride, sum_of
 from tokenmoor.weights import is_balance, is_falling, weigh
 
@@ -25,6 +29,10 @@ TREE = [((1, 0, 3), None, None), ((0, 1, 3), 0, 0), ((None, 0, 3), 1, 1), ((None
 LOW = ((2, 0), MOVES[:1])
 ROWS = [((2, 0), None, None), ((1, 1), 0, 0), ((0, 2), 1, 0)]
 FORM = [(1, 2, 1), (0, 3, 2)]
+# Counters go to and fro; or place 0 is filled without end, while at place 1 one counter is made of two.
+ROUND = ((2, 0), (((1, 0), (0, 1)), ((0, 1), (1, 0))))
+FILLED = ((0, 3), (((0, 0), (1, 0)), ((0, 2), (0, 1))))
+TEXT = "place a 2; place b 0; move fold takes 1 a puts 1 b; move back takes 1 b puts 2 a"
 CAPS = [(2, None), (1, 0), (None, 0), (2, None), (0, 7)]
 
 # Lists that are no bases yet (unsorted, with stands alike or covered) as well as such that are.
@@ -126,6 +134,32 @@ QUESTIONS = (
     (bounded, [MOOR, 2]),
     (bounded, [LOW, 30]),
     (bounded, [LOW, 2]),
+    (is_end, [LOW, (0, 2)]),
+    (kept, [MOOR]),
+    (kept, [LOW]),
+    (kept, [((0,), (((0,), (1,)),))]),
+    (end_of, [LOW, 30]),
+    (end_of, [LOW, 2]),
+    (end_of, [ROUND, 30]),
+    (end_of, [ROUND, 2]),
+    (end_of, [FILLED, 30]),
+    (again, [LOW, 0, 30]),
+    (again, [((0, 0), MOVES), 0, 30]),
+    (again, [ROUND, 0, 30]),
+    (again, [ROUND, 0, 2]),
+    (again, [ROUND, 0, 1]),
+    (reached, [LOW, (1, 1), 30]),
+    (reached, [LOW, (2, 0), 30]),
+    (reached, [LOW, (3, 0), 30]),
+    (reached, [LOW, (3, 0), 2]),
+    (reached, [((0, 0), (((0, 0), (1, 0)), ((0, 1), (0, 2)))), (0, 1), 30]),
+    (reached, [FILLED, (0, 0), 30]),
+    (reached, [FILLED, (0, 5), 30]),
+    (reached, [FILLED, (40, 1), 30]),
+    (read, [TEXT]),
+    (read, ["place a 2"]),
+    (shown, [MOOR, ["a", "b"], ["fold", "back"]]),
+    (shown, [((2, 0), ()), ["a", "b"], []]),
 )
 
 
@@ -165,7 +199,7 @@ class Answers(unittest.TestCase):
                 asked += 1
                 self.assertEqual(given, handed, call)
                 self.assertEqual(call(*given), kept, call)
-        self.assertTrue(asked > 50)
+        self.assertTrue(asked > 60, asked)
 
     def test_a_told_list_is_told_once(self):
         # Two lists of one answer are two: each changes by itself.
@@ -193,6 +227,37 @@ class Answers(unittest.TestCase):
                     thing.clear()
             spoil(again)
             self.assertEqual(told, kept, call)
+
+    def test_the_two_lists_of_a_lost_move_are_two(self):
+        told = again(((0, 0), MOVES[:1]), 0, 30)
+        self.assertEqual(told, ("dies", [], [(1, 0)]))
+        told[1].append(7)
+        self.assertEqual(told, ("dies", [7], [(1, 0)]))
+        told[2].append(7)
+        self.assertEqual(again(((0, 0), MOVES[:1]), 0, 30), ("dies", [], [(1, 0)]))
+
+    def test_the_two_lists_of_names_are_two(self):
+        told = read("place a 1; move a takes puts")
+        self.assertEqual(told[1:], (["a"], ["a"]))
+        told[1].append("b")
+        self.assertEqual(told[1:], (["a", "b"], ["a"]))
+
+    def test_the_lists_of_names_handed_in_may_be_changed_behind_it(self):
+        places, moves = ["a", "b"], ["fold", "back"]
+        self.assertEqual(shown(MOOR, places, moves), TEXT)
+        places[0] = "z"
+        moves.reverse()
+        self.assertEqual(shown(MOOR, ["a", "b"], ["fold", "back"]), TEXT)
+        self.assertEqual(read(TEXT)[1:], (["a", "b"], ["fold", "back"]))
+
+    def test_lists_told_elsewhere_don_t_change_a_desk(self):
+        desk = Desk()
+        desk.say("moor " + TEXT)
+        rows = ("now", "show", "cover 3 1", "bounded", "end", "again fold", "reached 2 1", "dry", "balances")
+        first = [desk.say(row) for row in rows]
+        for call, handed in QUESTIONS:
+            spoil(call(*copy.deepcopy(handed)))
+        self.assertEqual([desk.say(row) for row in rows], first)
 
     def test_the_growth_handed_in_here_is_the_one_that_is_told(self):
         self.assertEqual(growth(TALL, 30), TREE)

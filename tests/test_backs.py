@@ -5,59 +5,13 @@ import unittest
 from helpers import (
     HUGE, PLAIN, TOP, flood, grid, lifts, over, plain_next_ring, plain_sources, some_moors, some_stand, sparse_moors,
     walk)
+from slow import plain_cover, plain_enough
 from tokenmoor.backs import cover, enough, never, walled
 
 # Move 0 carries a counter from the second place to the first.
 CARRY = (((0, 1), (1, 0)),)
 # Move 0 makes a counter of nothing.
 MAKE = (((0,), (1,)),)
-
-
-def plain_enough(moves, target, most):
-    """Ring by ring, as point 15 says it."""
-    ring = [target]
-    for number in itertools.count():
-        further = plain_next_ring(moves, ring)
-        if len(ring) > most:
-            return ("open", number)
-        if further == ring:
-            return ("basis", ring)
-        if number == most:
-            return ("open", number)
-        ring = further
-
-
-def plain_cover(moor, target, most):
-    """Ring by ring, as point 16 says it; the row is sought by going from the beginning."""
-    begin, moves = moor
-    ring = [target]
-    for number in itertools.count():
-        further = plain_next_ring(moves, ring)
-        if lifts(ring, begin):
-            return ("row", first_row(begin, moves, target, number))
-        if len(ring) > most:
-            return ("open", number)
-        if further == ring:
-            return ("wall", ring)
-        if number == most:
-            return ("open", number)
-        ring = further
-
-
-def first_row(begin, moves, target, length):
-    """Of all rows of so many moves to a stand over the target the first in order; None where there is none."""
-    # The first row to each stand, and the stands in the order of these rows.
-    rows = {begin: []}
-    for each in range(length):
-        longer = {}
-        for stand, row in rows.items():
-            for number in range(len(moves)):
-                behind = walk(stand, moves, [number])[0]
-                if behind is not None:
-                    longer.setdefault(behind, row + [number])
-        rows = longer
-    found = [row for stand, row in rows.items() if over(stand, target)]
-    return found[0] if found else None
 
 
 def made_questions(seed, how_many):

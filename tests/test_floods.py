@@ -2,6 +2,7 @@ import random
 import unittest
 
 from helpers import HUGE, PLAIN, TOP, made_moors, over, plain_falling, plain_flood, walk
+from slow import plain_lift, way_of
 from tokenmoor.ceilings import level
 from tokenmoor.floods import bounded, flood, row_to
 
@@ -13,26 +14,6 @@ MAKE = (((0,), (1,)),)
 RING = ((1, 0, 0, 0), (
     ((1, 0, 0, 0), (0, 1, 0, 0)), ((0, 1, 0, 0), (0, 0, 1, 0)), ((0, 0, 1, 0), (0, 0, 0, 1)),
     ((0, 0, 0, 2), (3, 0, 0, 0))))
-
-
-def way_of(rows, number):
-    """The numbers from the first row to this one, and the moves between them."""
-    numbers, moves = [number], []
-    while rows[numbers[0]][1] is not None:
-        moves.insert(0, rows[numbers[0]][2])
-        numbers.insert(0, rows[numbers[0]][1])
-    return numbers, moves
-
-
-def plain_lift(rows):
-    """The row and what may go again, as point 38 says it; None where no stand covers one on its way."""
-    for number, (stand, parent, move) in enumerate(rows):
-        numbers, moves = way_of(rows, number)
-        for at in reversed(range(len(numbers) - 1)):
-            elder = rows[numbers[at]][0]
-            if over(stand, elder) and stand != elder:
-                return moves[:at], moves[at:]
-    return None
 
 
 class Flood(unittest.TestCase):

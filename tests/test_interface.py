@@ -80,6 +80,19 @@ INTERFACE = {
         "row_to": ["rows", "number"],
         "bounded": ["moor", "most"],
     },
+    "ends": {
+        "is_end": ["moor", "stand"],
+        "kept": ["moor"],
+        "end_of": ["moor", "most"],
+        "again": ["moor", "move", "most"],
+    },
+    "reasons": {
+        "reached": ["moor", "stand", "most"],
+    },
+    "texts": {
+        "read": ["text"],
+        "shown": ["moor", "places", "moves"],
+    },
 }
 ERRORS = ("MoorError", "NoMoor", "Stuck", "NoText", "NoName", "NoRow")
 
@@ -92,6 +105,15 @@ class Interface(unittest.TestCase):
                 found = inspect.signature(getattr(module, function)).parameters
                 self.assertEqual(list(found), arguments, function)
                 self.assertTrue(all(one.default is one.empty for one in found.values()), function)
+
+    def test_the_desk(self):
+        desk = importlib.import_module("tokenmoor.desk").Desk
+        self.assertTrue(inspect.isclass(desk))
+        self.assertEqual(list(inspect.signature(desk).parameters), [])
+        found = inspect.signature(desk().say).parameters
+        self.assertEqual(list(found), ["row"])
+        self.assertTrue(found["row"].default is inspect.Parameter.empty)
+        self.assertIs(type(desk().say(row="most 5")), str)
 
     def test_error_classes(self):
         module = importlib.import_module("tokenmoor.errors")

@@ -3,43 +3,12 @@ import random
 import unittest
 
 from helpers import TOP, made_moves, some_row, walk
+from slow import all_sets, dry_break, plain_greatest, plain_least_sets, wet_break
 from tokenmoor.sets import (
     breaks_dry, breaks_wet, greatest_dry, greatest_wet, is_dry, is_wet, least_dry, least_wet, turned)
 
 # Move 0 carries a counter from place 0 to place 1, move 1 makes one at place 2, move 2 takes one there away.
 MOVES = (((1, 0, 0), (0, 1, 0)), ((0, 0, 0), (0, 0, 1)), ((0, 0, 1), (0, 0, 0)))
-
-
-def all_sets(many):
-    return [places for size in range(many + 1) for places in itertools.combinations(range(many), size)]
-
-
-def plain_breaks(moves, places, forced, answer):
-    """The first move with counts there in the part that forces, and none there in the part that answers."""
-    for number, move in enumerate(moves):
-        if sum(move[forced][place] for place in places) and not sum(move[answer][place] for place in places):
-            return number
-    return None
-
-
-def dry_break(moves, places):
-    return plain_breaks(moves, places, 1, 0)
-
-
-def wet_break(moves, places):
-    return plain_breaks(moves, places, 0, 1)
-
-
-def plain_greatest(sets, places):
-    """Of these sets the one within the places that has all others within them in it."""
-    inner = [set(one) for one in sets if set(one) <= set(places)]
-    found = [one for one in inner if all(other <= one for other in inner)]
-    return tuple(sorted(found[0]))
-
-
-def plain_least_sets(sets):
-    filled = [set(one) for one in sets if one]
-    return sorted(tuple(sorted(one)) for one in filled if not any(other < one for other in filled))
 
 
 class DryAndWet(unittest.TestCase):

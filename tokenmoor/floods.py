@@ -27,6 +27,10 @@ def stands_behind(moor, stand):
     return [(after(stand, move), number) for number, move in enumerate(moor[1]) if able(stand, move)]
 
 
+def stands_in(rows):
+    return [row[0] for row in rows]
+
+
 def row_to(rows, number):
     return row_between(rows, 0, number)
 
@@ -38,7 +42,7 @@ def bounded(moor, most):
     if lift is not None:
         return ("lift", row_to(rows, lift[0]), row_between(rows, lift[0], lift[1]))
     if told[1]:
-        return ("all", [row[0] for row in rows])
+        return ("all", stands_in(rows))
     height = level(moor[1], len(moor[0]))
     return height if height[0] == "weights" else ("open",)
 
